@@ -200,6 +200,25 @@ func TestTableOnce(t *testing.T) {
 	}
 }
 
+// No answer hangs on the table: whatever it holds, and if there is none.
+func TestOfWhateverTable(t *testing.T) {
+	defer anew()
+	for name, table := range map[string]*[256]uint32{"none": nil, "noughts": {}, "one": {1, 2, 3}} {
+		seed := uint32(6)
+		for size := range 40 {
+			b := stirred(&seed, size)
+			Of(nil)
+			whole.Store(table)
+			if got, want := Of(b), divided(b); got != want {
+				t.Errorf("Of(%v), table %s = %08x, want %08x", b, name, got, want)
+			}
+			if whole.Load() != table {
+				t.Errorf("a call behind the first made another table, where there was %s", name)
+			}
+		}
+	}
+}
+
 // Many may be the first.
 func TestOfManyAtOnce(t *testing.T) {
 	const many = 16
