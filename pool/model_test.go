@@ -60,10 +60,10 @@ func slotsOf(list []*shardOf) (map[[2]int][]int, []int) {
 	return places, free
 }
 
-// model is a pool told another way. done counts what was done since a Fuse of so many; without a fuse, writes is below 0.
+// model is a pool told another way. done counts what was done since a Fuse of so many, and refused the ErrDowns since a Crash; without a fuse, writes is below 0.
 type model struct {
-	drives       []*modelDrive
-	writes, done int
+	drives                []*modelDrive
+	writes, done, refused int
 }
 
 func (m *model) drive(n int) (*modelDrive, api.Errno) {
@@ -78,7 +78,8 @@ func (m *model) drive(n int) (*modelDrive, api.Errno) {
 
 // act does what takes power.
 func (m *model) act(do func()) api.Errno {
-	if m.writes >= 0 && m.done >= m.writes {
+	if m.refused > 0 || m.writes >= 0 && m.done >= m.writes {
+		m.refused++
 		return api.ErrDown
 	}
 	m.done++
@@ -129,7 +130,7 @@ func (m *model) crash(keep uint64) {
 		whole := new(big.Int).SetUint64(keep)
 		d.settle(func(at int) bool { return at < 64 && whole.Bit((at+7*n)%64) == 1 })
 	}
-	m.writes, m.done = -1, 0
+	m.writes, m.done, m.refused = -1, 0, 0
 }
 
 // asked are the places that calls are about, and some that nobody has.

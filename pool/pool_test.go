@@ -630,28 +630,121 @@ func TestFuseRefused(t *testing.T) {
 	holdLoad(t, p, 0, 1, 1, "y", api.OK)
 }
 
-// A later Fuse tells anew how many are done yet, also behind one that is through.
+// While the power is there, a later Fuse tells anew how many are done yet, also behind one of which all are done.
 func TestFuseAgain(t *testing.T) {
-	p := filled(t, 1)
-	p.Fuse(5)
-	holdFlush(t, p, 0, api.OK)
-	p.Fuse(1)
-	holdFlush(t, p, 0, api.OK)
-	holdFlush(t, p, 0, api.ErrDown)
-	p.Fuse(2)
-	holdFlush(t, p, 0, api.OK)
-	holdFlush(t, p, 0, api.OK)
-	holdFlush(t, p, 0, api.ErrDown)
-	p.Fuse(-3)
-	holdFlush(t, p, 0, api.ErrDown)
-	p.Fuse(math.MaxInt)
-	for range 1000 {
-		holdFlush(t, p, 0, api.OK)
+	for _, first := range []int{0, 1, 2, 5, -1, math.MaxInt} {
+		for _, later := range []int{0, 1, 2, 5, -1} {
+			for name := range acts(nil) {
+				p := filled(t, 2, 2, 2)
+				act := acts(p)[name]
+				p.Fuse(first)
+				for range min(max(first, 0), 3) {
+					holdErr(t, name+" ahead of the later Fuse", act(), api.OK)
+				}
+				p.Fuse(later)
+				for range max(later, 0) {
+					holdErr(t, name+" behind the later Fuse", act(), api.OK)
+				}
+				holdErr(t, name+" behind all", act(), api.ErrDown)
+			}
+		}
 	}
-	p.Fuse(1)
+}
+
+// Behind the first ErrDown, of whatever act, each other one answers it, too, whatever is Fused; behind a Crash none does, nor has it a fuse.
+func TestFuseBehindErrDown(t *testing.T) {
+	for _, first := range []int{0, 1, 3, -1} {
+		for _, later := range []int{0, 1, 2, 40, math.MaxInt, -1, math.MinInt} {
+			for name := range acts(nil) {
+				p := filled(t, 2, 2, 2)
+				act := acts(p)[name]
+				p.Fuse(first)
+				for range max(first, 0) {
+					holdErr(t, name+" ahead of the fuse", act(), api.OK)
+				}
+				holdErr(t, name+" behind the fuse", act(), api.ErrDown)
+				for range 2 {
+					p.Fuse(later)
+					for other, behind := range acts(p) {
+						holdErr(t, other+" behind "+name, behind(), api.ErrDown)
+					}
+				}
+				p.Crash(0)
+				for range 50 {
+					holdErr(t, name+" behind a Crash", act(), api.OK)
+				}
+				p.Fuse(1)
+				holdErr(t, name+" of a new fuse", act(), api.OK)
+				holdErr(t, name+" behind a new fuse", act(), api.ErrDown)
+			}
+		}
+	}
+}
+
+// What answers ErrDown behind a later Fuse is not done, and what else a call may answer is as ever.
+func TestFuseBehindErrDownNotDone(t *testing.T) {
+	p := filled(t, 2, 0, 1)
+	holdStore(t, p, 0, 1, 1, "was", api.OK)
+	holdFlush(t, p, 0, api.OK)
+	holdStore(t, p, 0, 1, 1, "now", api.OK)
+	p.Drive(2).Lose()
+	p.Fuse(0)
+	holdStore(t, p, 0, 2, 2, "new", api.ErrDown)
+	p.Fuse(9)
+	holdStore(t, p, 0, 1, 1, "new", api.ErrDown)
+	holdStore(t, p, 0, 2, 2, "new", api.ErrDown)
+	holdErase(t, p, 0, 1, 1, api.ErrDown)
+	holdFlush(t, p, 0, api.ErrDown)
+	holdStore(t, p, 0, -1, 0, "", api.ErrArg)
+	holdStore(t, p, 1, 2, 2, "new", api.ErrFull)
+	holdErase(t, p, 0, 2, 2, api.ErrNone)
+	holdLost(t, p, 2)
+	holdNoDrive(t, p, 3)
+	holdHeld(t, p, 0, 1, [2]int{1, 1})
+	holdLoad(t, p, 0, 1, 1, "now", api.OK)
+	holdLasts(t, p, 0, 1, 1, true)
+	holdCount(t, "Loose()", p.Drive(0).Loose(), 1)
+	if n, e := p.Add(1); n != 3 || e != api.OK {
+		t.Errorf("Add(1) = %d, %d, want 3, 0", n, e)
+	}
+	holdStore(t, p, 3, 1, 1, "new", api.ErrDown)
 	p.Crash(0)
-	for range 10 {
+	holdLoad(t, p, 0, 1, 1, "was", api.OK)
+	holdStore(t, p, 3, 1, 1, "new", api.OK)
+}
+
+// What is refused for another reason, with nothing left of the fuse, is no ErrDown yet: a Fuse behind it tells anew.
+func TestFuseBehindOtherErrors(t *testing.T) {
+	p := filled(t, 1, 1)
+	holdStore(t, p, 0, 1, 1, "x", api.OK)
+	p.Drive(1).Lose()
+	p.Fuse(0)
+	holdStore(t, p, 0, 1, 256, "", api.ErrArg)
+	holdStore(t, p, 0, 2, 2, "", api.ErrFull)
+	holdErase(t, p, 0, 2, 2, api.ErrNone)
+	holdLoad(t, p, 0, 2, 2, "", api.ErrNone)
+	holdLost(t, p, 1)
+	holdNoDrive(t, p, 2)
+	p.Fuse(1)
+	holdFlush(t, p, 0, api.OK)
+	holdFlush(t, p, 0, api.ErrDown)
+}
+
+// A Crash takes the fuse away, also one by which nothing was refused.
+func TestCrashTakesFuse(t *testing.T) {
+	for _, writes := range []int{0, 1, 2, -1} {
+		p := filled(t, 1)
+		p.Fuse(writes)
+		p.Crash(0)
+		for range 10 {
+			holdFlush(t, p, 0, api.OK)
+		}
+		p.Fuse(2)
 		holdFlush(t, p, 0, api.OK)
+		p.Crash(0)
+		for range 10 {
+			holdFlush(t, p, 0, api.OK)
+		}
 	}
 }
 
